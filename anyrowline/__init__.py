@@ -1,0 +1,1 @@
+"""Assembly lines that keep their beat in every row of models, with evidence."""
