@@ -1,9 +1,11 @@
-"""Plans, and what their stations do for one piece."""
+"""Plans, what their stations do for one piece, and what else is told of stations: windows and beats."""
 
-from anyrowline.errors import BadValue
+from anyrowline.errors import BadValue, TooMany
 from anyrowline.values import are_within, has_length, is_integer, is_within
 
 MOST_STATIONS = 24
+MOST_TIME = 300000
+MOST_PLANS = 2 ** 18
 
 
 def is_plan(line, stations, value):
@@ -26,6 +28,27 @@ def check_station(station):
     """Raise the error of a station, which is the third argument everywhere, unless it is one."""
     if not is_within(station, 0, MOST_STATIONS - 1):
         raise BadValue(3)
+
+
+def check_time(value, at):
+    """Raise the error of this place unless value may be a window or a beat."""
+    if not is_within(value, 0, MOST_TIME):
+        raise BadValue(at)
+
+
+def check_windows(windows, at):
+    """Raise the error of this place unless windows has a window for each of a number of stations."""
+    if not has_length(windows, 1, MOST_STATIONS) or not are_within(windows, 0, MOST_TIME):
+        raise BadValue(at)
+
+
+def check_plans(line, stations):
+    """Raise an error if there are too many plans for so many stations to go through them all."""
+    many = sum([len(state) for state in line.states]) * (1 if line.slips is None else line.slips + 1)
+    for _ in line.tasks:
+        many = many * stations
+    if many > MOST_PLANS:
+        raise TooMany("plans")
 
 
 def tasks_there(line, plan, station, model):
