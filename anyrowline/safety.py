@@ -39,15 +39,15 @@ def shortest_row(machine, mask, growth, window, most):
 
 
 def fewest_possible(work, growth, window):
-    """A number of pieces that no row that overflows is below, found at once; 1 if no loop gains."""
+    """A number of pieces, found at once, of which or more each row is that overflows; 1 if no loop gains."""
     if growth.loop is None:
         return 1
-    total, pieces = (growth.beat, 1)
     even = growth
     while even.loop is not None:
         total, pieces = mean(work, even.loop)
         even = grown(work, total, pieces)
-    # No loop gains with a beat of total / pieces; a piece makes the station later than then by the difference only.
+    # With a beat of total / pieces no loop gains; with this beat a piece makes the station later than so by the
+    # difference at most.
     return max(1, (window * pieces - in_time(even.top)) // (total - growth.beat * pieces) + 1)
 
 

@@ -202,19 +202,12 @@ class TooManyPlans(Choices):
     """Point 34: plans, arcs, and slips and 1, up to 2 ** 18 together."""
 
     def line(self, tasks, arcs, slips):
-        """A line of so many tasks and arcs, over states that a row may or may not come to."""
+        """A line of so many tasks and arcs; to most of its states no row comes."""
         models = [()] + [(task % tasks,) for task in range(7)]
-        states = [[] for _ in range((arcs + 39) // 40)]
+        states = [[] for _ in range(min(arcs, 60))]
         for arc in range(arcs):
-            state, number = divmod(arc, 40)
-            states[state].append((number % 8, number // 8 % len(states)))
-        if len(states) < 5:
-            states = [[(0, 0)] for _ in range(5)]
-            arcs -= 5
-            for state in states:
-                more = [(model, to) for to in range(5) for model in range(8) if (model, to) != (0, 0)][:min(39, arcs)]
-                state += more
-                arcs -= len(more)
+            number, state = divmod(arc, len(states))
+            states[state].append((number % 8, number // 8))
         return Line(((0, 0),) * tasks, (), models, states, 0, slips=slips)
 
     def assert_told(self, line, stations, is_too_many):
