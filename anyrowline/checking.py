@@ -12,9 +12,14 @@ def row_overflows(line, plan, station, window, beat, row):
     check_station(station)
     check_time(window, 4)
     check_time(beat, 5)
+    return is_overflow(line, plan, station, window, beat, row)
+
+
+def is_overflow(line, stations, station, window, beat, row):
+    """Whether row is an allowed row that overflows at the station; stations has one for each task, or None."""
     if not is_row(line, row):
         return False
-    times = times_at(line, plan, station, row)
+    times = times_at(line, stations, station, row)
     ahead = [0] + latenesses(times, beat)
     return ahead[-2] + times[-1] > beat + window
 
@@ -24,10 +29,15 @@ def loop_gains(line, plan, station, beat, value):
     check_plan(line, plan)
     check_station(station)
     check_time(beat, 4)
+    return is_gain(line, plan, station, beat, value)
+
+
+def is_gain(line, stations, station, beat, value):
+    """Whether value is a loop that gains at the station; stations has one for each task, or None."""
     if not is_loop(line, value):
         return False
     head, body = value
-    times = times_at(line, plan, station, list(head) + list(body))
+    times = times_at(line, stations, station, list(head) + list(body))
     return sum(times[len(head):]) > beat * len(body)
 
 

@@ -1,7 +1,8 @@
 """What was found about a station, told as bounds, rows and loops."""
 
+from anyrowline.circles import FAR
 from anyrowline.growth import loop_steps, trail
-from anyrowline.machines import FAR, in_time
+from anyrowline.machines import in_time
 
 
 def bounds_of(machine, growth):

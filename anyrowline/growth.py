@@ -1,6 +1,7 @@
 """How late a station comes to be in the rows of a machine, however long they are."""
 
-from anyrowline.machines import FAR, NONE, SCALE, cost_of, in_time
+from anyrowline.circles import FAR, NONE, settled
+from anyrowline.machines import SCALE, cost_of, in_time
 
 # With this beat no piece makes a station later.
 MOST_LOAD = 240000
@@ -52,52 +53,6 @@ def grown(work, beat, parts=1):
         spreads[left] = work.spread(values)
         growth.note(left, [max([values[ahead] + more for ahead, more in pairs], default=NONE) for pairs in steady])
     return growth
-
-
-def settled(values, steady):
-    """Raise the values until pieces without slips raise none; if there's no end to it, the states of a loop."""
-    parents = [None] * len(values)
-    while swept(values, parents, steady):
-        loop = circle(parents)
-        if loop is not None:
-            return loop
-    return None
-
-
-def swept(values, parents, steady):
-    """Raise each value once, as far as pieces without slips do, and note from where; whether any was raised."""
-    is_raised = False
-    for at, pairs in enumerate(steady):
-        excesses = [values[ahead] + more for ahead, more in pairs]
-        high = max(excesses, default=NONE)
-        if high > values[at] and high > FAR:
-            values[at] = max(high, 0)
-            # A station that is on time forgets what was ahead.
-            parents[at] = pairs[excesses.index(high)][0] if high > 0 else None
-            is_raised = True
-    return is_raised
-
-
-def circle(parents):
-    """The states of a circle of parents, each ahead of the next one; None if there is none."""
-    seen = [None] * len(parents)
-    for first in range(len(parents)):
-        at = first
-        while at is not None and seen[at] is None:
-            seen[at] = first
-            at = parents[at]
-        if at is not None and seen[at] == first:
-            return circle_through(parents, at)
-    return None
-
-
-def circle_through(parents, at):
-    """The states of the circle of parents through this one, each ahead of the next one."""
-    states = [at]
-    while parents[states[-1]] != at:
-        states.append(parents[states[-1]])
-    states.reverse()
-    return states
 
 
 def loop_steps(work, loop):

@@ -5,13 +5,11 @@ last on time. So of all ways to the greatest lateness one of the fewest pieces c
 that gains nothing loses a little: going round and round comes to an end, and each way can be followed back.
 """
 
+from anyrowline.circles import FAR, NONE
 from anyrowline.loads import loads_of, slipped_of
 
 # More than the pieces of any row that is looked at.
 SCALE = 2048
-# What stands for a lateness where no piece comes; whatever is added to it, it stays below FAR.
-NONE = -10 ** 15
-FAR = -10 ** 14
 
 
 def in_time(scaled):

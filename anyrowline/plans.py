@@ -42,6 +42,13 @@ def check_windows(windows, at):
         raise BadValue(at)
 
 
+def check_old(line, old, at):
+    """Raise the error of this place unless old has a station for each task; -1 stands for none."""
+    many = len(line.tasks)
+    if not has_length(old, many, many) or not are_within(old, -1, MOST_STATIONS - 1):
+        raise BadValue(at)
+
+
 def check_plans(line, stations):
     """Raise an error if there are too many plans for so many stations to go through them all."""
     many = sum([len(state) for state in line.states]) * (1 if line.slips is None else line.slips + 1)

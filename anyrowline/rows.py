@@ -2,26 +2,32 @@
 
 from anyrowline.errors import BadValue
 from anyrowline.plans import check_plan, check_station, check_time
-from anyrowline.values import has_length, is_ascending, is_sequence, is_within
+from anyrowline.values import is_ascending, is_integer, is_sequence
 
 
 def is_piece(line, state, value):
     """Whether value is a piece that may come in the state."""
-    arcs = line.states[state]
-    if not has_length(value, 2, 2) or not is_within(value[0], 0, len(arcs) - 1):
+    # Rows may be long and many, so this is written to be quick where nothing slips.
+    if not isinstance(value, (list, tuple)) or len(value) != 2:
         return False
     arc, slipped = value
+    arcs = line.states[state]
+    if not is_integer(arc) or not 0 <= arc < len(arcs) or not isinstance(slipped, (list, tuple)):
+        return False
+    if len(slipped) == 0:
+        return True
     model = line.models[arcs[arc][0]]
     return is_ascending(slipped, len(line.tasks)) and all([task in model for task in slipped])
 
 
 def state_behind(line, pieces):
     """The state behind these pieces, the first of which comes in the line's start; None if one may not come."""
+    states = line.states
     state = line.start
     for piece in pieces:
         if not is_piece(line, state, piece):
             return None
-        state = line.states[state][piece[0]][1]
+        state = states[state][piece[0]][1]
     return state
 
 
@@ -32,17 +38,19 @@ def is_row(line, value):
     return line.slips is None or sum([len(slipped) for _, slipped in value]) <= line.slips
 
 
-def times_at(line, plan, station, row):
-    """What the pieces of an allowed row take at the station."""
-    there = [where == station for where in plan]
-    usual = [sum([line.tasks[task][0] for task in model if there[task]]) for model in line.models]
-    extras = [task[1] - task[0] if is_there else 0 for task, is_there in zip(line.tasks, there)]
+def times_at(line, stations, station, row):
+    """What the pieces of an allowed row take at the station; stations has one for each task, or None."""
+    there = [where == station for where in stations]
+    states = line.states
+    usual = {}
     times = []
     state = line.start
     for arc, slipped in row:
-        model, behind = line.states[state][arc]
-        times.append(usual[model] + sum([extras[task] for task in slipped]))
-        state = behind
+        model, state = states[state][arc]
+        if model not in usual:
+            usual[model] = sum([line.tasks[task][0] for task in line.models[model] if there[task]])
+        extra = sum([line.tasks[task][1] - line.tasks[task][0] for task in slipped if there[task]]) if slipped else 0
+        times.append(usual[model] + extra)
     return times
 
 

@@ -97,6 +97,10 @@ class Search:
             branches.append(tree)
         return ("assign", task, tuple(branches))
 
+    def is_fitting(self, task, station, beat):
+        """Whether the task can be at the station with what is assigned."""
+        return self.before_behind(task, station) is None and self.needed(task, station, beat, beat + 1) == beat
+
     def end(self, task, station, beat):
         """Why the task cannot be at the station with what is assigned; None if it can."""
         before = self.before_behind(task, station)

@@ -1,6 +1,7 @@
 """The shortest rows that overflow at a station."""
 
-from anyrowline.machines import FAR, NONE, in_time
+from anyrowline.circles import FAR, NONE
+from anyrowline.machines import in_time
 
 
 def fewest_steps(work, beat, window, most):

@@ -200,6 +200,77 @@ def least_by_trial(line, plan, windows):
     return next(beat for beat in itertools.count() if is_kept(line, plan, windows, beat))
 
 
+def does_refute(line, windows, beat, tree, old=None, most=None, way=()):
+    """Point 36, word by word, for any value; way has the pairs of a task and its station on the way down."""
+    stations, tasks, many = dict(way), range(len(line.tasks)), len(windows)
+    if not is_list(tree) or len(tree) == 0 or type(tree[0]) is not str:
+        return False
+    word, told_by = tree[0], list(tree[1:])
+    if word == "moved":
+        if len(told_by) != 1 or old is None or most is None or not is_list(told_by[0]):
+            return False
+        moved = list(told_by[0])
+        if not all(type(task) is int and task in tasks for task in moved) or moved != sorted(set(moved)):
+            return False
+        return len(moved) > most and all(task in stations and stations[task] != old[task] for task in moved)
+    if len(told_by) != 2:
+        return False
+    first, second = told_by
+    if word == "assign":
+        if not is_number(first, 0, len(tasks) - 1) or first in stations or not is_list(second, many):
+            return False
+        return all([does_refute(line, windows, beat, branch, old, most, (*way, (first, station)))
+                    for station, branch in enumerate(second)])
+    if word == "order":
+        if type(first) is not int or type(second) is not int or (first, second) not in line.order:
+            return False
+        return first in stations and second in stations and stations[first] > stations[second]
+    if word not in ("row", "loop") or not is_number(first, 0, many - 1):
+        return False
+    plan = [stations.get(task) for task in tasks]
+    if word == "loop":
+        return is_gaining(line, plan, first, beat, second)
+    return is_allowed(line, second) and does_overflow(line, plan, first, windows[first], beat, second)
+
+
+def moves_by_trial(line, windows, beat, old):
+    """The least number of tasks that have another station than in old; None if no plan keeps the windows."""
+    plans = [plan for plan in all_plans(line, len(windows)) if is_kept(line, plan, windows, beat)]
+    return min((sum(now != then for now, then in zip(plan, old)) for plan in plans), default=None)
+
+
+def parts_in(value, where=()):
+    """All parts of nested tuples, each with the way to it; the whole one comes first."""
+    found = [(where, value)]
+    if type(value) is tuple:
+        for at, part in enumerate(value):
+            found.extend(parts_in(part, (*where, at)))
+    return found
+
+
+def replaced(value, where, part):
+    """The nested tuples with this part at the end of this way."""
+    if len(where) == 0:
+        return part
+    at = where[0]
+    return (*value[:at], replaced(value[at], where[1:], part), *value[at + 1:])
+
+
+def changed_parts(chosen, part):
+    """What may stand in place of a part of a value, for the value to be a wrong one or just another one."""
+    if type(part) is tuple:
+        found = [list(part), (), part + part, part + part[-1:], part[:-1], part[1:], part[::-1], (part,), "", None, 0]
+        if len(part) > 1:
+            at = chosen.randrange(len(part))
+            found += [part[:at] + part[at + 1:], part[:at] + part[at:at + 1] + part[at:], part[1:] + part[:1]]
+        return found
+    if type(part) is str:
+        return ["", part + "s", part.upper(), (part,), None, 0, "assign", "order", "row", "loop", "moved"]
+    if type(part) is int:
+        return [part + 1, part - 1, -part, 0, 1, 2, -1, str(part), (part,), None, bool(part), part + HUGE, HUGE]
+    return [0, (), "", True]
+
+
 class Trial(unittest.TestCase):
     """What the tests of several files assert."""
 
