@@ -122,13 +122,18 @@ def rate_by_trial(line, plan, places, run):
 def is_slow(line, plan, places, run, value):
     """Whether the rate is above the value: going over all arcs again and again never ends."""
     arcs = arcs_of(line, plan, places, run)
-    late = {arc[0]: Fraction(0) for arc in arcs}
+    top, bottom = Fraction(value).as_integer_ratio()
+    late = {arc[0]: 0 for arc in arcs}
+    # No way that comes to no node twice is longer.
+    most = bottom * sum(arc[2] for arc in arcs)
     for _ in range(len(late) + 1):
         old = dict(late)
         for begin, end, weight, turns, _ in arcs:
-            late[end] = max(late[end], late[begin] + weight - value * turns)
+            late[end] = max(late[end], late[begin] + bottom * weight - top * turns)
         if late == old:
             return False
+        if max(late.values()) > most:
+            return True
     return True
 
 
