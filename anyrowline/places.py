@@ -1,9 +1,8 @@
 """The fewest places between stations with which the rate of a run is at most a given one."""
 
-from math import gcd
-
 from anyrowline.errors import BadValue, TooMany
 from anyrowline.graphs import Graph
+from anyrowline.rates import lowest
 from anyrowline.unpaced import MOST_PLACES, check_places, check_run, check_stations, takes_of
 from anyrowline.values import has_length, is_within
 
@@ -66,9 +65,7 @@ class PlaceSearch:
         self.takes = takes
         # How many stations have places behind them.
         self.many = len(takes) - 1
-        shared = gcd(value[0], value[1])
-        self.top = value[0] // shared
-        self.bottom = value[1] // shared
+        self.top, self.bottom = lowest(value)
         # Pairs of a circuit above the fraction, and a dict from where it steps back to the places there.
         self.known = []
 
@@ -112,8 +109,8 @@ def places_hold(line, plan, run, value, places, potentials, proof):
     check_value(value)
     check_places(plan, places, 5)
     takes = takes_of(line, plan, run)
-    shared = gcd(value[0], value[1])
-    if not Graph(takes, places).holds(value[0] // shared, value[1] // shared, potentials):
+    top, bottom = lowest(value)
+    if not Graph(takes, places).holds(top, bottom, potentials):
         return False
     return is_proof(takes, value, sum(places) - 1, proof)
 

@@ -17,21 +17,18 @@ def refutation_holds(line, windows, beat, tree, *, old=None, most=None):
         raise BadValue(6)
     if (old is None) != (most is None):
         raise BadValue(6)
-    descent = Descent(line, windows, beat)
-    descent.old = old
-    descent.most = most
-    return descent.holds(tree)
+    return Descent(line, windows, beat, old, most).holds(tree)
 
 
 class Descent:
     """Goes down each way of a tree, and knows what is assigned on it."""
 
-    def __init__(self, line, windows, beat):
+    def __init__(self, line, windows, beat, old, most):
         self.line = line
         self.windows = windows
         self.beat = beat
-        self.old = None
-        self.most = None
+        self.old = old
+        self.most = most
         self.pairs = {pair: True for pair in line.order}
         # The station of each task, None if it is not assigned.
         self.stations = [None] * len(line.tasks)
